@@ -1,0 +1,88 @@
+"""The names, arguments and files of the interface, as far as it has been built."""
+
+import importlib
+import inspect
+import unittest
+
+FUNCTIONS = {
+    "cards": [
+        "check_book(book)", "check_places(size, places)", "first_open(book, place, shut)",
+        "places_ahead(book, place, goal)", "shorten_cards(book, entries)",
+        "without_places(book, gone)", "rename_book(book, names)",
+    ],
+    "cardtext": ["format_book(book)", "parse_book(text)"],
+    "shutting": ["settle(book, order)", "settle_steps(book, order)", "standing_at(stands, goal)"],
+    "sitting": [
+        "seat_people(book, wishes, *, rooms=None)", "count_seated(book, wishes, *, rooms=None)",
+    ],
+    "rules": [
+        "check_rule(rule)", "rule_of(book)", "settle_rule(rule, order)",
+        "seat_by_rule(rule, wishes)", "read_cards(rule)",
+    ],
+    "tying": ["tie(book)"],
+    "treeview": [
+        "members_of(nest, places)", "ring_above(nest, places)", "least_node(nest, places)",
+        "nodes_around(nest, place)", "way_home(nest, place)",
+    ],
+    "nestcards": ["card_of(nest, place)", "cards_of(nest)", "walk_from(nest, place)"],
+    "nextopen": ["next_open(nest, place, shut)"],
+    "nesttext": ["format_nest(nest)", "parse_nest(text)"],
+    "faults": ["first_fault(book)", "list_faults(book)", "rest_fault(book)"],
+    "witnesses": ["parting_orders(book)", "parting_crowds(book)", "least_signs(book)"],
+    "finishing": ["agreeing_nest(book, entries)"],
+    "judging": ["judge(book)"],
+    "rulejudge": ["judge_rule(rule)"],
+    "calm": ["is_calm(book, place)", "calm_places(book)", "unrest(book, place)"],
+    "rooming": [
+        "check_rooms(size, rooms)", "check_wishes(size, wishes)", "spread_wishes(wishes)",
+        "count_wishes(size, people)",
+    ],
+}
+CLASSES = {
+    "nests": {
+        "Nest(size, gates)": ["loose(size)", "gate_of(self, places)", "tops(self)", "rings(self)"],
+    },
+    "tiers": {"Tier(size)": ["put(self, places, gate)", "finished(self)"]},
+    "verdicts": {
+        "Verdict(is_free)": ["word(self)"],
+        "Free(nest)": ["holds(self, book)", "holds_for_rule(self, rule)"],
+        "Torn(place, orders, crowds)": ["holds(self, book)", "holds_for_rule(self, rule)"],
+        "TornBook(entry, place, orders, crowds, nest)": [
+            "holds(self, book)", "holds_for_rule(self, rule)"],
+    },
+}
+PROPERTIES = {("nests", "Nest"): ["nodes"], ("tiers", "Tier"): ["waiting"]}
+
+
+def module_of(name):
+    return importlib.import_module(f"tiedrings.{name}")
+
+
+class InterfaceTest(unittest.TestCase):
+    def test_functions(self):
+        for name, told in FUNCTIONS.items():
+            for line in told:
+                function = getattr(module_of(name), line.split("(")[0])
+                self.assertEqual(function.__name__ + str(inspect.signature(function)), line)
+                self.assertEqual(function.__module__, f"tiedrings.{name}")
+
+    def test_classes(self):
+        for name, told in CLASSES.items():
+            for line, methods in told.items():
+                kind = getattr(module_of(name), line.split("(")[0])
+                self.assertEqual(kind.__name__ + str(inspect.signature(kind)), line)
+                self.assertEqual(kind.__module__, f"tiedrings.{name}")
+                for method in methods:
+                    word = method.split("(")[0]
+                    self.assertIn(word, vars(kind))
+                    found = getattr(kind, word)
+                    self.assertEqual(word + str(inspect.signature(found)), method)
+
+    def test_properties(self):
+        for (name, word), told in PROPERTIES.items():
+            for each in told:
+                self.assertIsInstance(vars(getattr(module_of(name), word))[each], property)
+
+    def test_generators(self):
+        for name, word in (("shutting", "settle_steps"), ("nestcards", "walk_from")):
+            self.assertTrue(inspect.isgeneratorfunction(getattr(module_of(name), word)))

@@ -1,0 +1,189 @@
+"""Point 3 for every function: arguments stay as they are, and returned lists are new."""
+
+import copy
+
+from tests.helpers import Case, spoil
+from tiedrings.calm import calm_places, is_calm, unrest
+from tiedrings.cards import (
+    check_book, check_places, first_open, places_ahead, rename_book, shorten_cards, without_places,
+)
+from tiedrings.cardtext import format_book, parse_book
+from tiedrings.faults import first_fault, list_faults, rest_fault
+from tiedrings.finishing import agreeing_nest
+from tiedrings.judging import judge
+from tiedrings.nestcards import card_of, cards_of, walk_from
+from tiedrings.nests import Nest
+from tiedrings.nesttext import format_nest, parse_nest
+from tiedrings.nextopen import next_open
+from tiedrings.rooming import check_rooms, check_wishes, count_wishes, spread_wishes
+from tiedrings.rulejudge import judge_rule
+from tiedrings.rules import check_rule, read_cards, rule_of, seat_by_rule, settle_rule
+from tiedrings.shutting import settle, settle_steps, standing_at
+from tiedrings.sitting import count_seated, seat_people
+from tiedrings.tiers import Tier
+from tiedrings.treeview import least_node, members_of, nodes_around, ring_above, way_home
+from tiedrings.tying import tie
+from tiedrings.verdicts import Free, Torn, TornBook
+from tiedrings.witnesses import least_signs, parting_crowds, parting_orders
+
+FREE = [[1, 2], [0, 2], [1, 0], []]
+TORN = [[1, 2, 3], [0, 3, 2], [3, 0, 1], [2, 0, 1]]
+RULE = rule_of(FREE)
+TORN_RULE = rule_of(TORN)
+NEST = parse_nest("((0>1 1>0)>2 2>1)>- 3>-")
+PAIRS = [((0,), 1), ((1,), 0), ((0, 1), -1)]
+
+CALLS = [
+    (check_book, TORN), (check_places, 4, [3, 1, 2]), (first_open, TORN, 0, [2, 1]),
+    (places_ahead, TORN, 0, 3), (places_ahead, TORN, 0, 0), (shorten_cards, TORN, 2),
+    (shorten_cards, TORN, 4), (without_places, TORN, [2, 0]), (without_places, TORN, []),
+    (rename_book, TORN, [3, 1, 2, 0]), (rename_book, TORN, [0, 1, 2, 3]),
+    (format_book, TORN), (parse_book, "0: 1\n1:"), (settle, TORN, [1, 0]), (settle, TORN, []),
+    (standing_at, [1, 1, 2], 1), (seat_people, TORN, [0, 0, 1]), (count_seated, TORN, [0, 0, 1]),
+    (check_rule, RULE), (rule_of, TORN), (settle_rule, RULE, [2, 0]), (settle_rule, RULE, []),
+    (seat_by_rule, RULE, [0, 0, 1]), (read_cards, RULE), (check_rooms, 2, [1, 2]),
+    (check_wishes, 2, [1, 2]), (spread_wishes, [2, 0, 1]), (count_wishes, 3, [2, 0, 2]),
+    (first_fault, TORN), (list_faults, TORN), (rest_fault, TORN), (rest_fault, FREE),
+    (members_of, NEST, (0, 1, 2)), (members_of, NEST, (0,)), (ring_above, NEST, (0,)),
+    (least_node, NEST, [2, 0]), (nodes_around, NEST, 0), (way_home, NEST, 0), (card_of, NEST, 0),
+    (cards_of, NEST), (next_open, NEST, 0, [1, 0]), (format_nest, NEST),
+    (parting_orders, TORN), (parting_crowds, TORN), (least_signs, TORN), (is_calm, TORN, 0),
+    (calm_places, FREE), (unrest, TORN, 0),
+]
+
+
+def steps_list(book, order):
+    return list(settle_steps(book, order))
+
+
+def nodes_made(size, pairs):
+    return Nest(size, pairs).nodes
+
+
+def tied_nodes(book):
+    return tie(book).nodes
+
+
+def agreeing_nodes(book, entries):
+    return agreeing_nest(book, entries).nodes
+
+
+def seats_with_rooms(book, wishes, rooms):
+    return seat_people(book, wishes, rooms=rooms), count_seated(book, wishes, rooms=rooms)
+
+
+def judged(book):
+    verdict = judge(book)
+    signs = [] if verdict.is_free else [verdict.place, verdict.orders, verdict.crowds]
+    return verdict.word(), verdict.nest.nodes, signs
+
+
+def judged_rule(rule):
+    verdict = judge_rule(rule)
+    return verdict.word(), [] if verdict.is_free else [verdict.orders, verdict.crowds]
+
+
+def told_twice(book):
+    return Free(NEST).holds(book), judge(TORN).holds(book)
+
+
+def told_of_rule(rule):
+    return Free(NEST).holds_for_rule(rule), judge(TORN).holds_for_rule(rule)
+
+
+CALLS += [
+    (steps_list, TORN, [1, 0, 3]), (nodes_made, 2, PAIRS), (tied_nodes, FREE),
+    (agreeing_nodes, TORN, 1), (seats_with_rooms, TORN, [0, 0, 1], [2, 0, 1, 1]), (judged, TORN),
+    (judged, FREE), (judged_rule, RULE), (judged_rule, TORN_RULE), (told_twice, FREE),
+    (told_twice, TORN), (told_of_rule, RULE), (told_of_rule, TORN_RULE),
+]
+
+
+def plain_copy(args):
+    """Copies of the lists; nests are passed on as they are."""
+    return [copy.deepcopy(a) if isinstance(a, (list, tuple)) else a for a in args]
+
+
+class ValuesTest(Case):
+    def test_arguments_stay(self):
+        for function, *args in CALLS:
+            with self.subTest(function.__name__):
+                given = plain_copy(args)
+                before = plain_copy(args)
+                function(*given)
+                self.assertEqual(given, before)
+
+    def test_changed_answers_change_no_later_answer(self):
+        for function, *args in CALLS:
+            with self.subTest(function.__name__):
+                given = plain_copy(args)
+                wanted = copy.deepcopy(function(*given))
+                spoil(function(*given))
+                self.assertEqual(given, plain_copy(args))
+                self.assertEqual(function(*given), wanted)
+
+    def test_changed_arguments_change_no_answer(self):
+        for function, *args in CALLS:
+            with self.subTest(function.__name__):
+                given = plain_copy(args)
+                answer = function(*given)
+                wanted = copy.deepcopy(answer)
+                spoil([a for a in given if isinstance(a, list)])
+                self.assertEqual(answer, wanted)
+
+    def test_kinds(self):
+        for function, *args in CALLS:
+            self.kinds_hold(function(*plain_copy(args)))
+
+    def kinds_hold(self, value):
+        self.assertIn(type(value), (list, tuple, int, str, bool, type(None)))
+        if isinstance(value, (list, tuple)):
+            for item in value:
+                self.kinds_hold(item)
+
+
+class ObjectsTest(Case):
+    def test_nest_copies_its_pairs(self):
+        pairs = list(PAIRS)
+        nest = Nest(2, pairs)
+        pairs.clear()
+        self.assertEqual(nest.nodes, sorted(PAIRS, key=lambda pair: len(pair[0])))
+        self.assertEqual(nest.gate_of((0, 1)), -1)
+
+    def test_lists_of_a_nest_are_new(self):
+        for read in (
+            lambda: NEST.nodes, NEST.tops, NEST.rings, lambda: list(NEST),
+            lambda: [list(pair) for pair in walk_from(NEST, 0)],
+        ):
+            wanted = copy.deepcopy(read())
+            spoil(read())
+            self.assertEqual(read(), wanted)
+
+    def test_nests_are_not_changed_by_reading(self):
+        nodes = NEST.nodes
+        for function, *args in CALLS:
+            function(*plain_copy(args))
+        self.assertEqual(NEST.nodes, nodes)
+
+    def test_finished_nest_is_its_own(self):
+        tier = Tier(1)
+        tier.put((0,), -1)
+        spoil(tier.finished().nodes)
+        self.assertEqual(tier.finished().nodes, [((0,), -1)])
+
+    def test_verdicts_copy_their_lists(self):
+        orders, crowds = ([1, 0], [0, 1]), ([0, 0, 1], [0, 1, 0])
+        for verdict in (Torn(0, orders, crowds), TornBook(0, 0, orders, crowds, NEST)):
+            for mine, given in zip(verdict.orders + verdict.crowds, orders + crowds):
+                self.assertEqual(mine, given)
+                self.assertIsNot(mine, given)
+
+    def test_judged_book_may_change_afterwards(self):
+        book = copy.deepcopy(TORN)
+        verdict = judge(book)
+        spoil(book)
+        self.assertIs(verdict.holds(TORN), True)
+        book = copy.deepcopy(FREE)
+        verdict = judge(book)
+        spoil(book)
+        self.assertIs(verdict.holds(FREE), True)

@@ -1,0 +1,1 @@
+"""Tiedrings: places that send their folk on when they are shut."""
