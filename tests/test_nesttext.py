@@ -147,6 +147,10 @@ class ParseTest(Case):
             self.refuses(error, {}, parse_nest, f"1>- {text}>- {text}>-")
         self.refuses(BadText, {}, parse_nest, "(" * 17)
         self.refuses(BadText, {}, parse_nest, "(" * 900)
+        text = "0"
+        for depth in range(1, 18):
+            text = f"((0>1)>1 (0>1)>1 {text}>1)"
+            self.refuses(BadText if depth > 15 else BadNest, {}, parse_nest, text + ">-")
         # As many brackets one behind the other are no fault of the building.
         self.refuses(BadNest, {}, parse_nest, " ".join(["(0>1)>-"] * 40))
 

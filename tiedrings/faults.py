@@ -71,12 +71,20 @@ def kept_apart(book, place, entry):
     return unlike_places(card[entry + 1:], remaining)
 
 
+def first_rest(book, place):
+    """Return the entry number of the place's first rest fault and what it keeps, or None."""
+    for entry in range(len(book[place])):
+        kept = kept_apart(book, place, entry)
+        if kept:
+            return entry, kept
+    return None
+
+
 def rest_fault(book):
     """Return the first rest fault, a triple (place, entry number, kept), or None."""
     check_book(book)
-    for place, card in enumerate(book):
-        for entry in range(len(card)):
-            kept = kept_apart(book, place, entry)
-            if kept:
-                return place, entry, kept
+    for place in range(len(book)):
+        rest = first_rest(book, place)
+        if rest is not None:
+            return place, rest[0], rest[1]
     return None

@@ -1,6 +1,6 @@
 """Tying the nest from which a book is read."""
 
-from tiedrings.cards import HOME, check_book
+from tiedrings.cards import HOME
 from tiedrings.errors import NotTied
 from tiedrings.faults import first_fault
 from tiedrings.knots import Knots
@@ -22,7 +22,6 @@ def tie_cards(book, most):
 
 def tie(book):
     """Return the nest from which the book is read."""
-    check_book(book)
     fault = first_fault(book)
     if fault is not None:
         raise NotTied(fault[0], fault[1])
