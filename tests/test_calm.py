@@ -1,3 +1,5 @@
+import itertools
+
 from tests.helpers import (
     Case, all_books, parted_places, plain_stands, some_books, some_nests,
 )
@@ -8,7 +10,40 @@ from tiedrings.nestcards import cards_of
 BOOK = [[1, 2, 3], [0, 3, 2], [3, 0, 1], [2, 0, 1]]
 
 
+def come_past(book, place, past):
+    """The places that the folk of the place can come to past the list, as point 56 tells it."""
+    reached = {place}
+    while True:
+        further = set()
+        for here in reached:
+            for entry in book[here]:
+                if entry in past:
+                    break
+                further.add(entry)
+        if further <= reached:
+            return reached
+        reached |= further
+
+
+def is_calm_past(book, place):
+    """The other way to tell, in point 22."""
+    others = [other for other in range(len(book)) if other != place]
+    for past in [(a,) for a in others] + list(itertools.combinations(others, 2)):
+        firsts = {
+            next((entry for entry in book[here] if entry in past), None)
+            for here in come_past(book, place, past)
+        }
+        if len(firsts) > 1:
+            return False
+    return True
+
+
 class CalmTest(Case):
+    def test_the_other_way_to_tell(self):
+        for book in list(all_books(3)) + some_books(4, 200, 5) + some_books(7, 50, 6):
+            for place in range(len(book)):
+                self.assertIs(is_calm(book, place), is_calm_past(book, place))
+
     def check_unrest(self, book):
         calm = []
         for place in range(len(book)):

@@ -132,12 +132,6 @@ class BadDeed(TiedError):
 class Full(BadDeed):
     """A deed would shut more places than the limit allows."""
 
-    def __init__(self):
-        super().__init__()
-
 
 class NotFree(BadDeed):
     """A deed needs a free book."""
-
-    def __init__(self):
-        super().__init__()

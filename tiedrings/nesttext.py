@@ -1,11 +1,11 @@
 """The text of a nest."""
 
 from tiedrings.cards import HOME, MOST
+from tiedrings.cardtext import is_number
 from tiedrings.errors import BadNest, BadText
 from tiedrings.nests import Nest
 from tiedrings.treeview import members_of
 
-MOST_DIGITS = 9
 MOST_BRACKETS = 16
 
 
@@ -56,9 +56,7 @@ class NestReader:
         while "0" <= self.sign() <= "9":
             self.at += 1
         digits = self.text[start:self.at]
-        if not 1 <= len(digits) <= MOST_DIGITS:
-            raise BadText()
-        if digits != "0" and digits[0] == "0":
+        if not is_number(digits):
             raise BadText()
         return int(digits)
 
@@ -114,8 +112,10 @@ class NestReader:
 
 def leads_round(circle):
     """Tell whether the gate of each member lies in the next one."""
-    following = circle[1:] + circle[:1]
-    return all([gate in places for (_, gate), (places, _) in zip(circle, following)])
+    gates = [gate for _, gate in circle]
+    nodes = [places for places, _ in circle]
+    following = nodes[1:] + nodes[:1]
+    return all([gate in places for gate, places in zip(gates, following)])
 
 
 def parse_nest(text):
