@@ -81,9 +81,20 @@ def deep_nest(size):
     return tier.finished()
 
 
+def chain_nest(size):
+    """Singles, each of which leads to the one before it."""
+    tier = Tier(size)
+    for place in range(size):
+        tier.put((place,), place - 1)
+    return tier.finished()
+
+
 def round_nest(size):
     """One ring of all places."""
     tier = Tier(size)
+    if size == 1:
+        tier.put((0,), HOME)
+        return tier.finished()
     ring = None
     for place in range(size):
         ring = tier.put((place,), (place + 1) % size)
@@ -131,6 +142,31 @@ def plain_seats(book, wishes, rooms):
         ways = [wish] + book[wish]
         seats.append(next((p for p in ways if seats.count(p) < rooms[p]), HOME))
     return seats
+
+
+def plain_swallow(book, wishes, rooms, goal):
+    """Numbers of people at each place while the goal swallows, person by person."""
+    counts = [0] * len(book)
+    for wish in wishes:
+        ways = [wish] + book[wish]
+        seat = next((p for p in ways if p == goal or counts[p] < rooms[p]), HOME)
+        if seat != HOME:
+            counts[seat] += 1
+    return counts
+
+
+def shuffled(people, rng):
+    """The same people in another order."""
+    mixed = list(people)
+    rng.shuffle(mixed)
+    return mixed
+
+
+def all_lists(places):
+    """All ascending lists of some of the places."""
+    for length in range(len(places) + 1):
+        for chosen in itertools.combinations(places, length):
+            yield list(chosen)
 
 
 def plain_ruled_stands(rule, order):

@@ -37,6 +37,18 @@ FUNCTIONS = {
         "check_rooms(size, rooms)", "check_wishes(size, wishes)", "spread_wishes(wishes)",
         "count_wishes(size, people)",
     ],
+    "choosing": [
+        "choose(total, part)", "subset_number(total, chosen)", "nth_subset(total, part, number)",
+    ],
+    "nestcounts": ["count_closed(size)", "count_rows(size)", "count_nests(size)"],
+    "closedranks": ["closed_number(nest)", "nth_closed(size, number)"],
+    "gatewords": ["gate_word(nest)", "hang_tops(nest, word)"],
+    "nestranks": ["nest_number(nest)", "nth_nest(size, number)", "all_nests(size)"],
+    "renaming": ["rename_nest(nest, names)", "join_names(names, others)", "turn_names(names)"],
+    "shapes": ["shape_code(nest)", "same_shape(nest, other)", "own_namings(nest)"],
+    "shapecounts": ["count_shapes(size)", "count_closed_shapes(size)"],
+    "flows": ["flow(nest, rooms, wishes)", "gone_home(nest, rooms, wishes)"],
+    "swallowing": ["swallow(nest, rooms, wishes, goal)"],
 }
 CLASSES = {
     "nests": {
@@ -84,5 +96,7 @@ class InterfaceTest(unittest.TestCase):
                 self.assertIsInstance(vars(getattr(module_of(name), word))[each], property)
 
     def test_generators(self):
-        for name, word in (("shutting", "settle_steps"), ("nestcards", "walk_from")):
+        for name, word in (
+            ("shutting", "settle_steps"), ("nestcards", "walk_from"), ("nestranks", "all_nests"),
+        ):
             self.assertTrue(inspect.isgeneratorfunction(getattr(module_of(name), word)))

@@ -8,18 +8,26 @@ from tiedrings.cards import (
     check_book, check_places, first_open, places_ahead, rename_book, shorten_cards, without_places,
 )
 from tiedrings.cardtext import format_book, parse_book
+from tiedrings.choosing import choose, nth_subset, subset_number
+from tiedrings.closedranks import closed_number, nth_closed
 from tiedrings.faults import first_fault, list_faults, rest_fault
 from tiedrings.finishing import agreeing_nest
+from tiedrings.flows import flow, gone_home
+from tiedrings.gatewords import gate_word, hang_tops
 from tiedrings.judging import judge
 from tiedrings.nestcards import card_of, cards_of, walk_from
+from tiedrings.nestranks import all_nests, nest_number, nth_nest
 from tiedrings.nests import Nest
 from tiedrings.nesttext import format_nest, parse_nest
 from tiedrings.nextopen import next_open
+from tiedrings.renaming import join_names, rename_nest, turn_names
 from tiedrings.rooming import check_rooms, check_wishes, count_wishes, spread_wishes
 from tiedrings.rulejudge import judge_rule
 from tiedrings.rules import check_rule, read_cards, rule_of, seat_by_rule, settle_rule
+from tiedrings.shapes import own_namings, same_shape, shape_code
 from tiedrings.shutting import settle, settle_steps, standing_at
 from tiedrings.sitting import count_seated, seat_people
+from tiedrings.swallowing import swallow
 from tiedrings.tiers import Tier
 from tiedrings.treeview import least_node, members_of, nodes_around, ring_above, way_home
 from tiedrings.tying import tie
@@ -31,6 +39,7 @@ TORN = [[1, 2, 3], [0, 3, 2], [3, 0, 1], [2, 0, 1]]
 RULE = rule_of(FREE)
 TORN_RULE = rule_of(TORN)
 NEST = parse_nest("((0>1 1>0)>2 2>1)>- 3>-")
+CLOSED = parse_nest("((0>1 1>0)>2 2>1)>-")
 PAIRS = [((0,), 1), ((1,), 0), ((0, 1), -1)]
 
 CALLS = [
@@ -49,6 +58,11 @@ CALLS = [
     (cards_of, NEST), (next_open, NEST, 0, [1, 0]), (format_nest, NEST),
     (parting_orders, TORN), (parting_crowds, TORN), (least_signs, TORN), (is_calm, TORN, 0),
     (calm_places, FREE), (unrest, TORN, 0),
+    (choose, 5, 2), (subset_number, 5, [1, 3]), (nth_subset, 5, 2, 7), (gate_word, NEST),
+    (nest_number, NEST), (join_names, [1, 0], [1, 0]), (turn_names, [1, 2, 0]),
+    (shape_code, NEST), (same_shape, NEST, NEST), (own_namings, NEST), (closed_number, CLOSED),
+    (flow, NEST, [1, 1, 0, 1], [3, 0, 1, 2]), (flow, NEST, [9, 9, 9, 9], [0, 1, 1, 2]),
+    (gone_home, NEST, [1, 1, 1, 1], [3, 0, 0, 2]), (swallow, NEST, [1, 1, 1, 1], [3, 0, 0, 2], 1),
 ]
 
 
@@ -66,6 +80,15 @@ def tied_nodes(book):
 
 def agreeing_nodes(book, entries):
     return agreeing_nest(book, entries).nodes
+
+
+def nodes_of_nests(names, word):
+    hung = hang_tops(NEST, word)
+    return [nest.nodes for nest in (rename_nest(NEST, names), hung, nth_nest(4, 77), nth_closed(3, 5))]
+
+
+def nodes_listed(size):
+    return [nest.nodes for nest in all_nests(size)]
 
 
 def seats_with_rooms(book, wishes, rooms):
@@ -96,6 +119,7 @@ CALLS += [
     (agreeing_nodes, TORN, 1), (seats_with_rooms, TORN, [0, 0, 1], [2, 0, 1, 1]), (judged, TORN),
     (judged, FREE), (judged_rule, RULE), (judged_rule, TORN_RULE), (told_twice, FREE),
     (told_twice, TORN), (told_of_rule, RULE), (told_of_rule, TORN_RULE),
+    (nodes_of_nests, [3, 0, 1, 2], [1]), (nodes_listed, 2),
 ]
 
 

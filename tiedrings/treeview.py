@@ -16,22 +16,32 @@ def ring_over(nest, node):
     return None
 
 
-def in_ring_order(nest, members):
-    """Return the members of a ring in ring order, that with the least place first."""
-    if not members:
-        return []
-    ordered = [min(members)]
-    while len(ordered) < len(members):
-        gate = nest.gate_of(ordered[-1])
-        ordered.extend([member for member in members if gate in member])
-    return ordered
+def ring_from(nest, largest, place):
+    """Return the members of a ring in ring order, from that of the place; each place has its own."""
+    members = [largest[place]]
+    following = largest[nest.gate_of(members[-1])]
+    while following != members[0]:
+        members.append(following)
+        following = largest[nest.gate_of(following)]
+    return members
+
+
+def members_by_node(nest):
+    """Return for each node its members in ring order; none for a single."""
+    members = {}
+    largest = {}
+    # In normal order the members of a ring are the largest nodes before it.
+    for node, _ in nest:
+        members[node] = ring_from(nest, largest, node[0]) if len(node) > 1 else []
+        for place in node:
+            largest[place] = node
+    return members
 
 
 def members_of(nest, places):
     """Return the members of a ring in ring order; an empty list for a single."""
     nest.gate_of(places)
-    members = [node for node, _ in nest if ring_over(nest, node) == places]
-    return in_ring_order(nest, members)
+    return members_by_node(nest)[places]
 
 
 def ring_above(nest, places):
