@@ -49,6 +49,23 @@ FUNCTIONS = {
     "shapecounts": ["count_shapes(size)", "count_closed_shapes(size)"],
     "flows": ["flow(nest, rooms, wishes)", "gone_home(nest, rooms, wishes)"],
     "swallowing": ["swallow(nest, rooms, wishes, goal)"],
+    "chances": ["chances(nest, rooms, wishes, wish)", "sure_end(nest, rooms, wishes, wish)"],
+    "growth": [
+        "next_seat(nest, rooms, wishes, wish)", "seats_left(nest, rooms, wishes, wish)",
+        "until_full(nest, rooms, wishes, wish, goal)",
+    ],
+    "standing": ["stands_of(nest, shut)", "groups_of(nest, shut)"],
+    "feeding": [
+        "feeders(nest, goal)", "feed_way(nest, goal, place)",
+        "stand_by_feeders(nest, shut, goal)", "least_shutting(nest, place, goal)",
+    ],
+    "piles": ["pile_sizes(nest, goal)", "pile(nest, goal, number)"],
+    "meeting": ["meet(nest, first, *others, meet_at=None)"],
+    "reopening": ["taken_back(nest, shut, place)"],
+    "linekeeping": ["line_up(nest, order)", "keeps_lines(nest)", "line_fault(nest)"],
+    "cutting": ["cut(nest, gone)"],
+    "inserting": ["put_in(nest, place, inner, entrances)"],
+    "extracting": ["take_out(nest, places)"],
 }
 CLASSES = {
     "nests": {

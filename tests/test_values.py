@@ -8,25 +8,36 @@ from tiedrings.cards import (
     check_book, check_places, first_open, places_ahead, rename_book, shorten_cards, without_places,
 )
 from tiedrings.cardtext import format_book, parse_book
+from tiedrings.chances import chances, sure_end
 from tiedrings.choosing import choose, nth_subset, subset_number
 from tiedrings.closedranks import closed_number, nth_closed
+from tiedrings.cutting import cut
+from tiedrings.extracting import take_out
 from tiedrings.faults import first_fault, list_faults, rest_fault
+from tiedrings.feeding import feed_way, feeders, least_shutting, stand_by_feeders
 from tiedrings.finishing import agreeing_nest
 from tiedrings.flows import flow, gone_home
 from tiedrings.gatewords import gate_word, hang_tops
+from tiedrings.growth import next_seat, seats_left, until_full
+from tiedrings.inserting import put_in
 from tiedrings.judging import judge
+from tiedrings.linekeeping import keeps_lines, line_fault, line_up
+from tiedrings.meeting import meet
 from tiedrings.nestcards import card_of, cards_of, walk_from
 from tiedrings.nestranks import all_nests, nest_number, nth_nest
 from tiedrings.nests import Nest
 from tiedrings.nesttext import format_nest, parse_nest
 from tiedrings.nextopen import next_open
+from tiedrings.piles import pile, pile_sizes
 from tiedrings.renaming import join_names, rename_nest, turn_names
+from tiedrings.reopening import taken_back
 from tiedrings.rooming import check_rooms, check_wishes, count_wishes, spread_wishes
 from tiedrings.rulejudge import judge_rule
 from tiedrings.rules import check_rule, read_cards, rule_of, seat_by_rule, settle_rule
 from tiedrings.shapes import own_namings, same_shape, shape_code
 from tiedrings.shutting import settle, settle_steps, standing_at
 from tiedrings.sitting import count_seated, seat_people
+from tiedrings.standing import groups_of, stands_of
 from tiedrings.swallowing import swallow
 from tiedrings.tiers import Tier
 from tiedrings.treeview import least_node, members_of, nodes_around, ring_above, way_home
@@ -63,6 +74,16 @@ CALLS = [
     (shape_code, NEST), (same_shape, NEST, NEST), (own_namings, NEST), (closed_number, CLOSED),
     (flow, NEST, [1, 1, 0, 1], [3, 0, 1, 2]), (flow, NEST, [9, 9, 9, 9], [0, 1, 1, 2]),
     (gone_home, NEST, [1, 1, 1, 1], [3, 0, 0, 2]), (swallow, NEST, [1, 1, 1, 1], [3, 0, 0, 2], 1),
+    (chances, NEST, [1, 1, 1, 1], [2, 0, 2, 0], 0), (chances, NEST, [0, 0, 0, 0], [2, 0, 2, 0], 0),
+    (sure_end, NEST, [1, 1, 1, 1], [0, 0, 2, 0], 0), (next_seat, NEST, [1, 1, 1, 1], [2, 0, 0, 1], 0),
+    (seats_left, NEST, [1, 1, 2, 1], [2, 0, 0, 1], 0),
+    (until_full, NEST, [1, 1, 2, 1], [2, 0, 0, 1], 0, 2),
+    (stands_of, NEST, [1, 0]), (stands_of, NEST, []), (groups_of, NEST, [3, 1, 0]),
+    (feeders, NEST, 1), (feed_way, NEST, 2, 0), (feed_way, NEST, 2, 2),
+    (stand_by_feeders, NEST, [1, 0], 2), (least_shutting, NEST, 0, 2), (least_shutting, NEST, 0, 0),
+    (pile_sizes, NEST, 1), (pile, NEST, 1, 2), (pile, NEST, 3, 0), (meet, NEST, 0, 2, 1),
+    (meet, NEST, 0), (taken_back, NEST, [2, 0, 1], 0), (line_up, NEST, [1, 0]), (line_up, NEST, []),
+    (keeps_lines, NEST), (line_fault, NEST),
 ]
 
 
@@ -85,6 +106,16 @@ def agreeing_nodes(book, entries):
 def nodes_of_nests(names, word):
     hung = hang_tops(NEST, word)
     return [nest.nodes for nest in (rename_nest(NEST, names), hung, nth_nest(4, 77), nth_closed(3, 5))]
+
+
+def joined_and_cut(gone, entrances):
+    left, kept = cut(NEST, gone)
+    return left.nodes, kept, put_in(NEST, 1, CLOSED, entrances).nodes
+
+
+def taken_out(places):
+    outer, inner, entrances = take_out(NEST, places)
+    return outer.nodes, inner.nodes, entrances
 
 
 def nodes_listed(size):
@@ -119,7 +150,8 @@ CALLS += [
     (agreeing_nodes, TORN, 1), (seats_with_rooms, TORN, [0, 0, 1], [2, 0, 1, 1]), (judged, TORN),
     (judged, FREE), (judged_rule, RULE), (judged_rule, TORN_RULE), (told_twice, FREE),
     (told_twice, TORN), (told_of_rule, RULE), (told_of_rule, TORN_RULE),
-    (nodes_of_nests, [3, 0, 1, 2], [1]), (nodes_listed, 2),
+    (nodes_of_nests, [3, 0, 1, 2], [1]), (nodes_listed, 2), (joined_and_cut, [2], [2, 0]),
+    (joined_and_cut, [], [0, 0]), (taken_out, (0, 1)),
 ]
 
 

@@ -2,10 +2,10 @@
 
 from tiedrings.cards import check_book, is_place
 from tiedrings.nestcards import cards_of
-from tiedrings.nextopen import next_open
 from tiedrings.rules import check_rule, row_places, ruled_seats, ruled_stands
 from tiedrings.shutting import stands_after
 from tiedrings.sitting import seats_of
+from tiedrings.standing import stands_in
 
 
 def filled_places(size, seats):
@@ -30,12 +30,6 @@ def are_crowds(size, crowds):
     """Tell whether the two lists contain the same places, equally often."""
     first, second = crowds
     return are_places(size, first) and sorted(first) == sorted(second)
-
-
-def stands_of_row(nest, number):
-    """Return the stands in the nest while the set of the row is shut."""
-    shut = row_places(nest.size, number)
-    return [next_open(nest, place, shut) for place in range(nest.size)]
 
 
 class Verdict:
@@ -64,9 +58,11 @@ class Free(Verdict):
     def holds_for_rule(self, rule):
         """Tell whether each row of the rule has the stands of the nest."""
         check_rule(rule)
-        if len(rule) != 1 << self.nest.size:
+        size = self.nest.size
+        if len(rule) != 1 << size:
             return False
-        return all([row == stands_of_row(self.nest, number) for number, row in enumerate(rule)])
+        rows = [stands_in(self.nest, row_places(size, number)) for number in range(len(rule))]
+        return rows == rule
 
 
 class Torn(Verdict):
