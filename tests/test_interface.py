@@ -66,6 +66,23 @@ FUNCTIONS = {
     "cutting": ["cut(nest, gone)"],
     "inserting": ["put_in(nest, place, inner, entrances)"],
     "extracting": ["take_out(nest, places)"],
+    "leading": ["lead(nest, places, goal)", "loosen(nest, places)", "do_steps(nest, steps)"],
+    "peeling": ["peel(nest)", "build(size, steps)"],
+    "distance": [
+        "common_part(nest, other)", "fewest_steps(nest, other)", "step_count(nest, other)",
+    ],
+    "sides": ["side_by_side(first, *others)"],
+    "arrows": ["arrows(book, kept)", "possible_ends(book, kept, place)", "free_at(book, kept)"],
+    "gathering": [
+        "hopeful(book, kept, *, goals)", "gather(book, kept, *, goals)",
+        "together(book, kept, first, *others)",
+    ],
+    "crowding": [
+        "largest_crowd(book, kept, *, folk, goals)", "least_crowd(book, kept, *, folk, goals)",
+    ],
+    "ever": ["ever_at(book, kept, goal)", "way_there(book, kept, goal, place)"],
+    "fewest": ["fewest_shuttings(book, place, goal)"],
+    "openreach": ["come_past(book, watched, past)"],
 }
 CLASSES = {
     "nests": {

@@ -3,6 +3,7 @@
 import copy
 
 from tests.helpers import Case, spoil
+from tiedrings.arrows import arrows, free_at, possible_ends
 from tiedrings.calm import calm_places, is_calm, unrest
 from tiedrings.cards import (
     check_book, check_places, first_open, places_ahead, rename_book, shorten_cards, without_places,
@@ -11,16 +12,22 @@ from tiedrings.cardtext import format_book, parse_book
 from tiedrings.chances import chances, sure_end
 from tiedrings.choosing import choose, nth_subset, subset_number
 from tiedrings.closedranks import closed_number, nth_closed
+from tiedrings.crowding import largest_crowd, least_crowd
 from tiedrings.cutting import cut
+from tiedrings.distance import common_part, fewest_steps, step_count
+from tiedrings.ever import ever_at, way_there
 from tiedrings.extracting import take_out
 from tiedrings.faults import first_fault, list_faults, rest_fault
 from tiedrings.feeding import feed_way, feeders, least_shutting, stand_by_feeders
+from tiedrings.fewest import fewest_shuttings
 from tiedrings.finishing import agreeing_nest
 from tiedrings.flows import flow, gone_home
+from tiedrings.gathering import gather, hopeful, together
 from tiedrings.gatewords import gate_word, hang_tops
 from tiedrings.growth import next_seat, seats_left, until_full
 from tiedrings.inserting import put_in
 from tiedrings.judging import judge
+from tiedrings.leading import do_steps, lead, loosen
 from tiedrings.linekeeping import keeps_lines, line_fault, line_up
 from tiedrings.meeting import meet
 from tiedrings.nestcards import card_of, cards_of, walk_from
@@ -28,6 +35,8 @@ from tiedrings.nestranks import all_nests, nest_number, nth_nest
 from tiedrings.nests import Nest
 from tiedrings.nesttext import format_nest, parse_nest
 from tiedrings.nextopen import next_open
+from tiedrings.openreach import come_past
+from tiedrings.peeling import build, peel
 from tiedrings.piles import pile, pile_sizes
 from tiedrings.renaming import join_names, rename_nest, turn_names
 from tiedrings.reopening import taken_back
@@ -36,6 +45,7 @@ from tiedrings.rulejudge import judge_rule
 from tiedrings.rules import check_rule, read_cards, rule_of, seat_by_rule, settle_rule
 from tiedrings.shapes import own_namings, same_shape, shape_code
 from tiedrings.shutting import settle, settle_steps, standing_at
+from tiedrings.sides import side_by_side
 from tiedrings.sitting import count_seated, seat_people
 from tiedrings.standing import groups_of, stands_of
 from tiedrings.swallowing import swallow
@@ -51,6 +61,7 @@ RULE = rule_of(FREE)
 TORN_RULE = rule_of(TORN)
 NEST = parse_nest("((0>1 1>0)>2 2>1)>- 3>-")
 CLOSED = parse_nest("((0>1 1>0)>2 2>1)>-")
+OTHER = parse_nest("((0>1 1>0)>2 2>0)>3 3>-")
 PAIRS = [((0,), 1), ((1,), 0), ((0, 1), -1)]
 
 CALLS = [
@@ -83,7 +94,12 @@ CALLS = [
     (stand_by_feeders, NEST, [1, 0], 2), (least_shutting, NEST, 0, 2), (least_shutting, NEST, 0, 0),
     (pile_sizes, NEST, 1), (pile, NEST, 1, 2), (pile, NEST, 3, 0), (meet, NEST, 0, 2, 1),
     (meet, NEST, 0), (taken_back, NEST, [2, 0, 1], 0), (line_up, NEST, [1, 0]), (line_up, NEST, []),
-    (keeps_lines, NEST), (line_fault, NEST),
+    (keeps_lines, NEST), (line_fault, NEST), (peel, NEST), (fewest_steps, NEST, OTHER),
+    (fewest_steps, NEST, NEST), (step_count, NEST, OTHER), (arrows, TORN, [3, 1]), (arrows, TORN, []),
+    (arrows, TORN, [0, 1, 2, 3]), (possible_ends, TORN, [3, 2], 0), (free_at, TORN, [3, 2]),
+    (together, TORN, [3, 2], 0, 1), (ever_at, TORN, [3, 2], 3), (way_there, TORN, [3, 2], 3, 0),
+    (way_there, TORN, [3, 2], 3, 3), (fewest_shuttings, TORN, 0, 3), (fewest_shuttings, TORN, 0, 0),
+    (come_past, TORN, [3, 0], [2]), (come_past, TORN, [3, 0], [2, 1]),
 ]
 
 
@@ -116,6 +132,21 @@ def joined_and_cut(gone, entrances):
 def taken_out(places):
     outer, inner, entrances = take_out(NEST, places)
     return outer.nodes, inner.nodes, entrances
+
+
+def nodes_after_steps(steps):
+    led = lead(NEST, (3,), 0)
+    made = (led, loosen(led, (3,)), do_steps(NEST, steps), build(4, steps), common_part(NEST, OTHER))
+    return [nest.nodes for nest in made + (side_by_side(NEST, OTHER),)]
+
+
+def gathered(book, kept, goals):
+    return hopeful(book, kept, goals=goals), gather(book, kept, goals=goals)
+
+
+def crowded(book, kept, folk, goals):
+    most = largest_crowd(book, kept, folk=folk, goals=goals)
+    return most, least_crowd(book, kept, folk=folk, goals=goals)
 
 
 def nodes_listed(size):
@@ -151,7 +182,9 @@ CALLS += [
     (judged, FREE), (judged_rule, RULE), (judged_rule, TORN_RULE), (told_twice, FREE),
     (told_twice, TORN), (told_of_rule, RULE), (told_of_rule, TORN_RULE),
     (nodes_of_nests, [3, 0, 1, 2], [1]), (nodes_listed, 2), (joined_and_cut, [2], [2, 0]),
-    (joined_and_cut, [], [0, 0]), (taken_out, (0, 1)),
+    (joined_and_cut, [], [0, 0]), (taken_out, (0, 1)), (nodes_after_steps, [("lead", (3,), 2)]),
+    (nodes_after_steps, []), (gathered, TORN, [3, 2], [-1, 3]), (gathered, TORN, [3, 2], []),
+    (crowded, TORN, [3, 2], [5, 0, 7, 1000], [3]), (crowded, TORN, [], [5, 0, 7, 1000], [-1]),
 ]
 
 

@@ -6,12 +6,12 @@ from tiedrings.errors import BadRooms, BadWishes
 MOST_PEOPLE = 30
 
 
-def first_wrong(size, numbers):
-    """Return the first place whose number is not from 0 to 30; -1 for a wrong length; or None."""
+def first_wrong(size, numbers, most):
+    """Return the first place whose number is not from 0 to `most`; -1 for a wrong length; or None."""
     if len(numbers) != size:
         return -1
     for place, number in enumerate(numbers):
-        if not 0 <= number <= MOST_PEOPLE:
+        if not 0 <= number <= most:
             return place
     return None
 
@@ -19,7 +19,7 @@ def first_wrong(size, numbers):
 def check_rooms(size, rooms):
     """Refuse what are no rooms of `size` places."""
     check_size(size)
-    wrong = first_wrong(size, rooms)
+    wrong = first_wrong(size, rooms, MOST_PEOPLE)
     if wrong is not None:
         raise BadRooms(wrong)
 
@@ -27,7 +27,7 @@ def check_rooms(size, rooms):
 def check_wishes(size, wishes):
     """Refuse what are no counted wishes of `size` places."""
     check_size(size)
-    wrong = first_wrong(size, wishes)
+    wrong = first_wrong(size, wishes, MOST_PEOPLE)
     if wrong is not None:
         raise BadWishes(wrong)
 

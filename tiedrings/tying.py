@@ -7,6 +7,13 @@ from tiedrings.knots import Knots
 from tiedrings.nests import Nest
 
 
+def tie_nest(size, gate_of_node):
+    """Return the nest in which the function tells the gate of each node."""
+    knots = Knots(size)
+    knots.tie_all(gate_of_node)
+    return Nest(size, list(knots.gates.items()))
+
+
 def tie_cards(book, most):
     """Return the nest of the book's gates, where nodes with more than `most` places lead home."""
     def card_gate(node):
@@ -15,9 +22,7 @@ def tie_cards(book, most):
             return HOME
         return card[len(node) - 1]
 
-    knots = Knots(len(book))
-    knots.tie_all(card_gate)
-    return Nest(len(book), list(knots.gates.items()))
+    return tie_nest(len(book), card_gate)
 
 
 def tie(book):
