@@ -6,43 +6,53 @@ from tests.helpers import (
 from tiedrings.calm import calm_places, is_calm, unrest
 from tiedrings.errors import BadBook, BadPlace
 from tiedrings.nestcards import cards_of
+from tiedrings.openreach import come_past
 
 BOOK = [[1, 2, 3], [0, 3, 2], [3, 0, 1], [2, 0, 1]]
 
 
-def come_past(book, place, past):
-    """The places that the folk of the place can come to past the list, as point 56 tells it."""
-    reached = {place}
-    while True:
-        further = set()
-        for here in reached:
-            for entry in book[here]:
-                if entry in past:
-                    break
-                further.add(entry)
-        if further <= reached:
-            return reached
-        reached |= further
-
-
-def is_calm_past(book, place):
-    """The other way to tell, in point 22."""
+def told_apart(book, place):
+    """A list, and a place to which the folk come past it, that tell it is not calm (point 22)."""
     others = [other for other in range(len(book)) if other != place]
-    for past in [(a,) for a in others] + list(itertools.combinations(others, 2)):
-        firsts = {
-            next((entry for entry in book[here] if entry in past), None)
-            for here in come_past(book, place, past)
-        }
-        if len(firsts) > 1:
-            return False
-    return True
+    for past in [[a] for a in others] + [list(pair) for pair in itertools.combinations(others, 2)]:
+        firsts = [next((entry for entry in card if entry in past), None) for card in book]
+        for here in come_past(book, [place], past):
+            if firsts[here] != firsts[place]:
+                return past, here
+    return None
+
+
+def shortest_way(book, place, goal, past):
+    """A shortest way from the place to the goal past the list."""
+    ways = [[place]]
+    for way in ways:
+        if way[-1] == goal:
+            return way
+        for entry in book[way[-1]]:
+            if entry in past:
+                break
+            if not any(entry in other for other in ways):
+                ways.append(way + [entry])
+    return None
 
 
 class CalmTest(Case):
     def test_the_other_way_to_tell(self):
-        for book in list(all_books(3)) + some_books(4, 200, 5) + some_books(7, 50, 6):
+        books = [x for n in (1, 2, 3) for x in all_books(n)]
+        for book in books + some_books(4, 200, 5) + some_books(7, 50, 6) + some_books(16, 2, 7):
             for place in range(len(book)):
-                self.assertIs(is_calm(book, place), is_calm_past(book, place))
+                told = told_apart(book, place)
+                self.assertIs(is_calm(book, place), told is None)
+                if told is not None:
+                    self.check_told(book, place, *told)
+
+    def check_told(self, book, place, past, goal):
+        """The two orders of point 22 part the folk of the place."""
+        others = [other for other in range(len(book)) if other not in past]
+        way = shortest_way(book, place, goal, past)
+        over = [other for other in others if other not in way] + way
+        last = [other for other in others if other != place] + [place]
+        self.assertNotEqual(plain_stands(book, over)[place], plain_stands(book, last)[place])
 
     def check_unrest(self, book):
         calm = []

@@ -83,12 +83,35 @@ FUNCTIONS = {
     "ever": ["ever_at(book, kept, goal)", "way_there(book, kept, goal, place)"],
     "fewest": ["fewest_shuttings(book, place, goal)"],
     "openreach": ["come_past(book, watched, past)"],
+    "pairtable": ["pair_table(book, watched)"],
+    "normalbook": ["normal_book(book, watched)"],
+    "parting": ["are_alike(book, other, watched)", "parting_order(book, other, watched)"],
+    "needless": ["needless_entries(book, watched)", "strike(book, entries)"],
+    "rehearsing": ["change_limit(street, number)", "rehearse(street, deeds)"],
+    "words": ["read_line(line)", "write_line(parts)"],
+    "desk": ["run_text(text)"],
+    "reports": ["report(street, names)"],
 }
 CLASSES = {
     "nests": {
         "Nest(size, gates)": ["loose(size)", "gate_of(self, places)", "tops(self)", "rings(self)"],
     },
     "tiers": {"Tier(size)": ["put(self, places, gate)", "finished(self)"]},
+    "halfknown": {
+        "HalfKnown(nest, choices)": [
+            "around(nest)", "see(self, shut, stands)", "fits(self, shut, stands)",
+            "ends(self, place, shut)", "sure(self, place, shut)", "share(self, place, shut, end)",
+            "part(self, place, shut)", "world(self, number)", "world_number(self, nest)"],
+    },
+    "learning": {
+        "Learner(size)": ["ask(self)", "tell(self, stands)", "found(self)", "most(size)"],
+    },
+    "street": {
+        "Street(book)": [
+            "shut(self, place)", "reopen(self, place)", "late(self, at, place)", "undo(self)",
+            "do(self, deed)", "where(self, place)", "who(self, goal)"],
+    },
+    "desk": {"Desk()": ["run_line(self, line)"]},
     "verdicts": {
         "Verdict(is_free)": ["word(self)"],
         "Free(nest)": ["holds(self, book)", "holds_for_rule(self, rule)"],
@@ -97,7 +120,12 @@ CLASSES = {
             "holds(self, book)", "holds_for_rule(self, rule)"],
     },
 }
-PROPERTIES = {("nests", "Nest"): ["nodes"], ("tiers", "Tier"): ["waiting"]}
+PROPERTIES = {
+    ("nests", "Nest"): ["nodes"], ("tiers", "Tier"): ["waiting"],
+    ("halfknown", "HalfKnown"): ["worlds", "choices"], ("learning", "Learner"): ["asked", "done"],
+    ("street", "Street"): ["free_book", "deeds", "shut_places", "stands_now", "limit"],
+    ("desk", "Desk"): ["names", "street"],
+}
 
 
 def module_of(name):
@@ -127,7 +155,22 @@ class InterfaceTest(unittest.TestCase):
     def test_properties(self):
         for (name, word), told in PROPERTIES.items():
             for each in told:
-                self.assertIsInstance(vars(getattr(module_of(name), word))[each], property)
+                found = vars(getattr(module_of(name), word))[each]
+                self.assertIsInstance(found, property)
+                self.assertIs(found.fset is not None, each == "limit")
+
+    def test_methods_without_an_object(self):
+        for name, word, method, kind in (
+            ("nests", "Nest", "loose", classmethod), ("halfknown", "HalfKnown", "around", classmethod),
+            ("learning", "Learner", "most", staticmethod),
+        ):
+            self.assertIsInstance(vars(getattr(module_of(name), word))[method], kind)
+
+    def test_every_module_is_there(self):
+        found = set(FUNCTIONS) | set(CLASSES) | {"errors"}
+        for name in found:
+            self.assertEqual(module_of(name).__name__, f"tiedrings.{name}")
+        self.assertEqual(len(found), 63)
 
     def test_generators(self):
         for name, word in (

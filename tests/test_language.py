@@ -67,6 +67,11 @@ def generators():
     }
 
 
+def is_setter(node):
+    """Tell whether the method is the setter of a property."""
+    return any(isinstance(line, ast.Attribute) for line in node.decorator_list)
+
+
 def bound_names(tree):
     """The names that functions of a file give to parameters and local variables."""
     for node in ast.walk(tree):
@@ -74,6 +79,8 @@ def bound_names(tree):
             yield node.arg
         if isinstance(node, ast.Name) and isinstance(node.ctx, ast.Store):
             yield node.id
+        if isinstance(node, (ast.MatchAs, ast.MatchStar)) and node.name is not None:
+            yield node.name
 
 
 class FilesTest(unittest.TestCase):
@@ -191,9 +198,13 @@ class NamesTest(unittest.TestCase):
             if node.name.startswith("__"):
                 self.assertIn(node.name, DUNDERS, name)
             for line in node.decorator_list:
-                self.assertIn(line.id, ("property", "classmethod", "staticmethod"), name)
+                if isinstance(line, ast.Attribute):
+                    self.assertEqual((line.value.id, line.attr), (node.name, "setter"), name)
+                else:
+                    self.assertIn(line.id, ("property", "classmethod", "staticmethod"), name)
         for name, node in nodes(ast.ClassDef):
-            methods = [n.name for n in node.body if isinstance(n, ast.FunctionDef)]
+            methods = [
+                n.name for n in node.body if isinstance(n, ast.FunctionDef) and not is_setter(n)]
             self.assertEqual(len(methods), len(set(methods)), name)
             self.assertFalse(set(methods) & METHODS, name)
 
@@ -213,7 +224,8 @@ class NamesTest(unittest.TestCase):
 
     def test_attributes_are_no_methods_of_the_class(self):
         for name, node in nodes(ast.ClassDef):
-            methods = {n.name for n in node.body if isinstance(n, ast.FunctionDef)}
+            kept = [n for n in node.body if isinstance(n, ast.FunctionDef)]
+            methods = {n.name for n in kept} - {n.name for n in kept if is_setter(n)}
             stored = {
                 n.attr for n in ast.walk(node)
                 if isinstance(n, ast.Attribute) and isinstance(n.ctx, ast.Store)
@@ -283,7 +295,11 @@ class CodeTest(unittest.TestCase):
         for name, node in nodes(ast.Raise):
             self.assertIsInstance(node.exc, ast.Call, name)
             self.assertIsInstance(node.exc.func, ast.Name, name)
-        self.assertEqual(list(nodes(ast.ExceptHandler)), [])
+
+    def test_only_own_errors_are_caught(self):
+        for name, node in nodes(ast.ExceptHandler):
+            self.assertIn(node.type.id, own_names(), name)
+            self.assertIsNone(node.name, name)
 
     def test_no_generator_shares_its_name(self):
         names = [node.name for _, node in nodes(ast.FunctionDef)]

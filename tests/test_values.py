@@ -14,6 +14,7 @@ from tiedrings.choosing import choose, nth_subset, subset_number
 from tiedrings.closedranks import closed_number, nth_closed
 from tiedrings.crowding import largest_crowd, least_crowd
 from tiedrings.cutting import cut
+from tiedrings.desk import run_text
 from tiedrings.distance import common_part, fewest_steps, step_count
 from tiedrings.ever import ever_at, way_there
 from tiedrings.extracting import take_out
@@ -25,21 +26,29 @@ from tiedrings.flows import flow, gone_home
 from tiedrings.gathering import gather, hopeful, together
 from tiedrings.gatewords import gate_word, hang_tops
 from tiedrings.growth import next_seat, seats_left, until_full
+from tiedrings.halfknown import HalfKnown
 from tiedrings.inserting import put_in
 from tiedrings.judging import judge
 from tiedrings.leading import do_steps, lead, loosen
+from tiedrings.learning import Learner
 from tiedrings.linekeeping import keeps_lines, line_fault, line_up
 from tiedrings.meeting import meet
 from tiedrings.nestcards import card_of, cards_of, walk_from
+from tiedrings.needless import needless_entries, strike
 from tiedrings.nestranks import all_nests, nest_number, nth_nest
 from tiedrings.nests import Nest
 from tiedrings.nesttext import format_nest, parse_nest
 from tiedrings.nextopen import next_open
+from tiedrings.normalbook import normal_book
 from tiedrings.openreach import come_past
+from tiedrings.pairtable import pair_table
+from tiedrings.parting import are_alike, parting_order
 from tiedrings.peeling import build, peel
 from tiedrings.piles import pile, pile_sizes
+from tiedrings.rehearsing import rehearse
 from tiedrings.renaming import join_names, rename_nest, turn_names
 from tiedrings.reopening import taken_back
+from tiedrings.reports import report
 from tiedrings.rooming import check_rooms, check_wishes, count_wishes, spread_wishes
 from tiedrings.rulejudge import judge_rule
 from tiedrings.rules import check_rule, read_cards, rule_of, seat_by_rule, settle_rule
@@ -48,12 +57,14 @@ from tiedrings.shutting import settle, settle_steps, standing_at
 from tiedrings.sides import side_by_side
 from tiedrings.sitting import count_seated, seat_people
 from tiedrings.standing import groups_of, stands_of
+from tiedrings.street import Street
 from tiedrings.swallowing import swallow
 from tiedrings.tiers import Tier
 from tiedrings.treeview import least_node, members_of, nodes_around, ring_above, way_home
 from tiedrings.tying import tie
 from tiedrings.verdicts import Free, Torn, TornBook
 from tiedrings.witnesses import least_signs, parting_crowds, parting_orders
+from tiedrings.words import read_line, write_line
 
 FREE = [[1, 2], [0, 2], [1, 0], []]
 TORN = [[1, 2, 3], [0, 3, 2], [3, 0, 1], [2, 0, 1]]
@@ -99,7 +110,12 @@ CALLS = [
     (arrows, TORN, [0, 1, 2, 3]), (possible_ends, TORN, [3, 2], 0), (free_at, TORN, [3, 2]),
     (together, TORN, [3, 2], 0, 1), (ever_at, TORN, [3, 2], 3), (way_there, TORN, [3, 2], 3, 0),
     (way_there, TORN, [3, 2], 3, 3), (fewest_shuttings, TORN, 0, 3), (fewest_shuttings, TORN, 0, 0),
-    (come_past, TORN, [3, 0], [2]), (come_past, TORN, [3, 0], [2, 1]),
+    (come_past, TORN, [3, 0], [2]), (come_past, TORN, [3, 0], [2, 1]), (pair_table, TORN, [3, 0]),
+    (pair_table, TORN, [3, 0, 1, 2]), (normal_book, TORN, [3, 0]), (normal_book, TORN, [3, 0, 1, 2]),
+    (are_alike, TORN, FREE, [3, 0]), (parting_order, TORN, FREE, [3, 0]),
+    (needless_entries, TORN, [3]), (strike, TORN, [(3, 0), (0, 2)]), (strike, TORN, []),
+    (run_text, "places ada\njudge"), (read_line, "card ada : bo"), (read_line, "undo"),
+    (write_line, ("card", "ada", ["bo", "cy"])),
 ]
 
 
@@ -149,6 +165,28 @@ def crowded(book, kept, folk, goals):
     return most, least_crowd(book, kept, folk=folk, goals=goals)
 
 
+def half_told(choices, shut, stands):
+    half = HalfKnown(NEST, choices)
+    told = [half.choices, half.worlds, half.fits(shut, stands), half.ends(2, shut), half.sure(2, shut)]
+    parted = [nest.nodes for nest in half.part(2, shut)]
+    return told, parted, half.share(2, shut, 0), half.see(shut, stands), half.choices, half.world(0).nodes
+
+
+def learned(stands):
+    learner = Learner(2)
+    learner.tell(stands)
+    return learner.ask(), learner.asked, learner.done
+
+
+def lived(book, deeds, names):
+    street = Street(book)
+    rehearsed = rehearse(street, deeds)
+    for deed in deeds:
+        street.do(deed)
+    told = [street.deeds, street.shut_places, street.stands_now, street.who(1), street.limit]
+    return rehearsed, told, report(street, names)
+
+
 def nodes_listed(size):
     return [nest.nodes for nest in all_nests(size)]
 
@@ -184,6 +222,9 @@ CALLS += [
     (nodes_of_nests, [3, 0, 1, 2], [1]), (nodes_listed, 2), (joined_and_cut, [2], [2, 0]),
     (joined_and_cut, [], [0, 0]), (taken_out, (0, 1)), (nodes_after_steps, [("lead", (3,), 2)]),
     (nodes_after_steps, []), (gathered, TORN, [3, 2], [-1, 3]), (gathered, TORN, [3, 2], []),
+    (half_told, [[1], [0], [0, 1], [-1], [2], [-1]], [2], [0, 1, 1, 3]), (learned, [1, 1]),
+    (lived, FREE, [("shut", 0), ("late", 0, 2)], ["a", "b", "c", "d"]),
+    (lived, FREE, [], ["a", "b", "c", "d"]), (lived, TORN, [("shut", 0)], ["a", "b", "c", "d"]),
     (crowded, TORN, [3, 2], [5, 0, 7, 1000], [3]), (crowded, TORN, [], [5, 0, 7, 1000], [-1]),
 ]
 

@@ -23,6 +23,12 @@ def check_place(size, place):
         raise BadPlace(place)
 
 
+def check_end(size, end):
+    """Refuse what is neither a place of the street nor HOME."""
+    if end != HOME:
+        check_place(size, end)
+
+
 def check_people(size, people):
     """Refuse a list with an entry that is no place; places may be repeated."""
     for place in people:

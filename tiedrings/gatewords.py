@@ -1,7 +1,7 @@
 """Gate words: one word for each way to lead the tops of a nest home."""
 
-from tiedrings.cards import HOME, is_place
-from tiedrings.errors import BadPlace, BadSize
+from tiedrings.cards import HOME, check_end
+from tiedrings.errors import BadSize
 from tiedrings.nests import Nest
 
 
@@ -41,8 +41,7 @@ def check_word(size, tops, word):
     if len(word) != len(tops) - 1:
         raise BadSize(len(word))
     for letter in word:
-        if letter != HOME and not is_place(size, letter):
-            raise BadPlace(letter)
+        check_end(size, letter)
 
 
 def hang_tops(nest, word):
