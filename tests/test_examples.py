@@ -1,5 +1,6 @@
 """The examples of the document, and those of README.md, run as they stand there."""
 
+import builtins
 import doctest
 import pathlib
 import unittest
@@ -60,6 +61,10 @@ EXAMPLES = """
 
 
 class ExamplesTest(unittest.TestCase):
+    def tearDown(self):
+        # What doctest shows is kept as a builtin, which other tests would find.
+        vars(builtins).pop("_", None)
+
     def run_examples(self, text, name):
         told = []
         examples = doctest.DocTestParser().get_doctest(text, {}, name, name, 0)

@@ -96,7 +96,9 @@ class ReadingTest(Case):
                 self.assertIsNone(read_line(line.replace(" ", "  ")), line)
                 self.assertIsNone(read_line(line.replace(" ", "\t")), line)
                 self.assertIsNone(read_line(line.replace(" ", "\n", 1)), line)
+            if line:
                 self.assertIsNone(read_line(line.upper()), line)
+                self.assertIsNone(read_line(line[0].upper() + line[1:]), line)
         for line in (" ", "  ", "\t", "\n", "\r"):
             self.assertIsNone(read_line(line))
 

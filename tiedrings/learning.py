@@ -22,7 +22,6 @@ class Learner:
     """Finds a nest: asks for looks, and is told what is seen."""
 
     def __init__(self, size):
-        check_size(size)
         self._tier = Tier(size)
         self._looks = 0
 

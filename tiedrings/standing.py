@@ -5,14 +5,9 @@ from tiedrings.nestcards import cards_of
 from tiedrings.shutting import standing_at
 
 
-def free_stands(book, shut):
-    """Return the stands in a free book while just these places are shut; nothing is checked."""
-    return [first_not_in([place] + card, shut) for place, card in enumerate(book)]
-
-
 def stands_in(nest, shut):
     """Return the stands while just these places are shut; nothing is checked."""
-    return free_stands(cards_of(nest), shut)
+    return [first_not_in([place] + card, shut) for place, card in enumerate(cards_of(nest))]
 
 
 def stands_of(nest, shut):

@@ -4,7 +4,6 @@ from tiedrings.cards import check_book, check_end, check_place
 from tiedrings.errors import BadDeed, BadNumber, Full, NotFree
 from tiedrings.faults import first_fault
 from tiedrings.shutting import stands_after, standing_at
-from tiedrings.standing import free_stands
 
 
 def shut_after(shut, deed):
@@ -58,8 +57,7 @@ class Street:
     @property
     def stands_now(self):
         """The stands."""
-        if self._free:
-            return free_stands(self._book, self._shut)
+        # If places have been opened again, the book is free, and the order does not matter.
         return stands_after(self._book, self._shut)
 
     @property
