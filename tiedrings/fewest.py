@@ -11,31 +11,31 @@ def stand_after(book, stand, shut, place):
     return first_not_in(book[place], shut + [place]) if place == stand else stand
 
 
-def further_cases(book, cases):
-    """Return the cases with one place more shut, each with an order that leads to it.
+def further_ways(book, ways):
+    """Return pairs of a stand and an order with one place more shut than in these pairs.
 
-    A case is the shut places, ascending, and the stand. Whoever is at home stays there, so these
-    cases are left out.
+    Only what is shut and where the folk stand counts, so one order is kept for each such state.
+    Whoever is at home stays there, so orders that lead home are left out.
     """
     found = {}
-    for stand, order in cases:
+    for stand, order in ways:
         for place in range(len(book)):
             if place not in order:
                 goal = stand_after(book, stand, order, place)
-                case = (tuple(sorted(order + [place])), goal)
-                if goal != HOME and case not in found:
-                    found[case] = (goal, order + [place])
+                state = (tuple(sorted(order + [place])), goal)
+                if goal != HOME and state not in found:
+                    found[state] = (goal, order + [place])
     return list(found.values())
 
 
 def least_order(book, place, goal):
     """Return a shortest order after which the folk of the place stand at the goal, or None."""
-    cases = [(place, [])]
-    while cases:
-        for stand, order in cases:
+    ways = [(place, [])]
+    while ways:
+        for stand, order in ways:
             if stand == goal:
                 return order
-        cases = further_cases(book, cases)
+        ways = further_ways(book, ways)
     return None
 
 
